@@ -1,0 +1,87 @@
+// Package lender: a book of loans that can be checked: see DOC.md.
+package lender
+
+import (
+	"lender/api"
+	"lender/logs"
+	"lender/sums"
+)
+
+// Book is a book of loans.
+type Book struct{}
+
+// Sum sums a text up (P3).
+func Sum(s string) int { return sums.Sum(s) }
+
+// Root sums a log up (P4).
+func Root(l []string) (int, api.Errno) {
+	if logs.TooLong(l) {
+		return 0, api.ErrLong
+	}
+	return logs.Root(l), api.OK
+}
+
+// Path gives the proof that an entry is in a log (P5).
+func Path(l []string, i int) ([]int, api.Errno) {
+	if logs.TooLong(l) {
+		return nil, api.ErrLong
+	}
+	if i < 0 || i >= len(l) {
+		return nil, api.ErrArg
+	}
+	return logs.Path(l, i), api.OK
+}
+
+// Within checks such a proof (P6).
+func Within(root int, n int, i int, entry string, path []int) bool {
+	if n < 1 || n > api.MaxLog || i < 0 || i >= n {
+		return false
+	}
+	if len(entry) > api.MaxEntry {
+		return false
+	}
+	s := sums.Entry(entry)
+	x, ok := logs.Leads(n, i, s, path)
+	return ok && x == root
+}
+
+// Further gives the proof that a log goes on from its beginning (P7).
+func Further(l []string, m int) ([]int, api.Errno) { return nil, api.OK }
+
+// Grows checks such a proof (P8).
+func Grows(old int, m int, root int, n int, path []int) bool { return false }
+
+// Twin gives away a false proof that an entry is in a log (P9).
+func Twin(l []string, i int, entry string, path []int) (string, string, api.Errno) {
+	return "", "", api.OK
+}
+
+// Twins gives away a false proof that a log goes on from another (P10).
+func Twins(a []string, b []string, path []int) (string, string, api.Errno) { return "", "", api.OK }
+
+// New makes an empty book (P11).
+func New() *Book { return nil }
+
+// Add adds an event (P11).
+func (b *Book) Add(e api.Event) api.Errno { return api.OK }
+
+// Size tells how many events there are (P12).
+func (b *Book) Size() int { return 0 }
+
+// State tells a loan's state (P12).
+func (b *Book) State(loan int) (api.State, api.Errno) { return api.State{}, api.OK }
+
+// Log tells the entries (P13).
+func (b *Book) Log() []string { return nil }
+
+// Head tells the head (P13).
+func (b *Book) Head() api.Head { return api.Head{} }
+
+// Account gives a loan's account (P14).
+func (b *Book) Account(loan int) (api.Account, api.Errno) { return api.Account{}, api.OK }
+
+// Accepts checks an account (P15).
+func Accepts(top int, a api.Account) bool { return false }
+
+// Lie gives away a false account (P16).
+func (b *Book) Lie(a api.Account) (string, string, api.Errno) { return "", "", api.OK }
