@@ -80,6 +80,8 @@ func TestP2NothingHandedInIsWritten(t *testing.T) {
 		lender.Root(l)
 		for i := -1; i <= n; i++ {
 			lender.Path(l, i)
+			lender.Further(l, i)
+			lender.Further(l, i+1)
 		}
 		if strings.Join(whole, ",") != before {
 			t.Errorf("a log of %d entries, or its spare room, was written into", n)
@@ -95,8 +97,20 @@ func TestP2NothingHandedInIsWritten(t *testing.T) {
 			}
 			lender.Within(0, n, n-1-i, "x", path)
 			lender.Within(0, 200, 0, "x", path)
+			lender.Grows(7, i+1, 0, n, path)
 			if fmt.Sprint(whole) != before {
 				t.Errorf("a path of %d entries, or its spare room, was written into", n)
+			}
+			whole, path = sparePath(furtherOf(l, i+1))
+			before = fmt.Sprint(whole)
+			if !lender.Grows(rootOf(l[:i+1]), i+1, rootOf(l), n, path) {
+				t.Errorf("Grows from %d to %d entries", i+1, n)
+			}
+			lender.Grows(0, i+1, 0, n, path)
+			lender.Grows(7, 1, 0, 200, path)
+			lender.Within(0, n, i, "x", path)
+			if fmt.Sprint(whole) != before {
+				t.Errorf("a path from %d to %d entries, or its spare room, was written into", i+1, n)
 			}
 		}
 	}
@@ -110,22 +124,38 @@ func spoil(p []int) {
 	}
 }
 
+// proof gives the paths of a log one by one: first those of its places, then those from its beginnings.
+func proof(l []string, i int) []int {
+	if i < len(l) {
+		path, _ := lender.Path(l, i)
+		return path
+	}
+	path, _ := lender.Further(l, i-len(l)+1)
+	return path
+}
+
+// proofOf gives what proof should give.
+func proofOf(l []string, i int) []int {
+	if i < len(l) {
+		return pathOf(l, i)
+	}
+	return furtherOf(l, i-len(l)+1)
+}
+
 func TestP2PathsAreTheCallersOwn(t *testing.T) {
 	l := named(200)
 	var kept [][]int
-	for i := range l {
-		path, _ := lender.Path(l, i)
-		kept = append(kept, path)
+	for i := 0; i < 2*len(l); i++ {
+		kept = append(kept, proof(l, i))
 	}
 	// Each path is spoilt in turn, the last ones first: those ahead, and the answers to come, stay as they are.
-	for i := len(l) - 1; i >= 0; i-- {
-		if fmt.Sprint(kept[i]) != fmt.Sprint(pathOf(l, i)) {
-			t.Fatalf("a later call, or writing into a later path, changed the path at %d", i)
+	for i := len(kept) - 1; i >= 0; i-- {
+		if fmt.Sprint(kept[i]) != fmt.Sprint(proofOf(l, i)) {
+			t.Fatalf("a later call, or writing into a later path, changed path %d", i)
 		}
 		spoil(kept[i])
-		again, _ := lender.Path(l, i)
-		if fmt.Sprint(again) != fmt.Sprint(pathOf(l, i)) {
-			t.Fatalf("writing into the path at %d changed the later answer", i)
+		if fmt.Sprint(proof(l, i)) != fmt.Sprint(proofOf(l, i)) {
+			t.Fatalf("writing into path %d changed the later answer", i)
 		}
 	}
 }
@@ -133,6 +163,7 @@ func TestP2PathsAreTheCallersOwn(t *testing.T) {
 func TestP2NothingIsKept(t *testing.T) {
 	l := named(9)
 	path, _ := lender.Path(l, 4)
+	further, _ := lender.Further(l, 5)
 	root, _ := lender.Root(l)
 	l[0], l[8] = "another", "more"
 	if got, _ := lender.Root(l); got != rootOf(l) {
@@ -141,11 +172,17 @@ func TestP2NothingIsKept(t *testing.T) {
 	if got, _ := lender.Path(l, 4); fmt.Sprint(got) != fmt.Sprint(pathOf(l, 4)) {
 		t.Errorf("Path of the changed log = %v, want %v", got, pathOf(l, 4))
 	}
-	if root != rootOf(named(9)) || fmt.Sprint(path) != fmt.Sprint(pathOf(named(9), 4)) {
+	if got, _ := lender.Further(l, 5); fmt.Sprint(got) != fmt.Sprint(furtherOf(l, 5)) {
+		t.Errorf("Further of the changed log = %v, want %v", got, furtherOf(l, 5))
+	}
+	if root != rootOf(named(9)) || fmt.Sprint(path) != fmt.Sprint(pathOf(named(9), 4)) || fmt.Sprint(further) != fmt.Sprint(furtherOf(named(9), 5)) {
 		t.Error("changing the log changed earlier answers")
 	}
 	if !lender.Within(root, 9, 4, l[4], path) {
 		t.Error("changing the log changed what Within answers")
+	}
+	if !lender.Grows(rootOf(named(5)), 5, root, 9, further) {
+		t.Error("changing the log changed what Grows answers")
 	}
 }
 
@@ -155,10 +192,16 @@ func TestP2TheSameEachTime(t *testing.T) {
 		for _, n := range []int{100, 1, 57, 2, 100} {
 			lender.Root(named(201))
 			lender.Path(l, -1)
+			lender.Further(l, 0)
 			root, _ := lender.Root(l[:n])
 			path, _ := lender.Path(l[:n], n-1)
 			if root != rootOf(l[:n]) || fmt.Sprint(path) != fmt.Sprint(pathOf(l[:n], n-1)) || !lender.Within(root, n, n-1, l[n-1], path) {
 				t.Fatalf("round %d: the answers for %d entries are others", round, n)
+			}
+			m := (n + 2) / 3
+			further, _ := lender.Further(l[:n], m)
+			if fmt.Sprint(further) != fmt.Sprint(furtherOf(l[:n], m)) || !lender.Grows(rootOf(l[:m]), m, root, n, further) {
+				t.Fatalf("round %d: the answers from %d to %d entries are others", round, m, n)
 			}
 		}
 	}

@@ -46,10 +46,24 @@ func Within(root int, n int, i int, entry string, path []int) bool {
 }
 
 // Further gives the proof that a log goes on from its beginning (P7).
-func Further(l []string, m int) ([]int, api.Errno) { return nil, api.OK }
+func Further(l []string, m int) ([]int, api.Errno) {
+	if logs.TooLong(l) {
+		return nil, api.ErrLong
+	}
+	if m < 1 || m > len(l) {
+		return nil, api.ErrArg
+	}
+	return logs.Further(l, m, true), api.OK
+}
 
 // Grows checks such a proof (P8).
-func Grows(old int, m int, root int, n int, path []int) bool { return false }
+func Grows(old int, m int, root int, n int, path []int) bool {
+	if m < 1 || m > n || n > api.MaxLog {
+		return false
+	}
+	x, y, ok := logs.Joins(m, n, old, true, path)
+	return ok && x == old && y == root
+}
 
 // Twin gives away a false proof that an entry is in a log (P9).
 func Twin(l []string, i int, entry string, path []int) (string, string, api.Errno) {

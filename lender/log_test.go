@@ -79,16 +79,19 @@ func longest(n, place, bytes int) []string {
 	return l
 }
 
+// tooLong: logs that may not be, each for what is told of it.
+var tooLong = []struct {
+	what string
+	l    []string
+}{
+	{"201 entries", named(201)}, {"201 empty entries", make([]string, 201)}, {"a million entries", make([]string, 1000000)},
+	{"41 bytes alone", longest(1, 0, 41)}, {"41 bytes ahead", longest(9, 0, 41)}, {"41 bytes amid", longest(9, 4, 41)},
+	{"41 bytes at the end", longest(9, 8, 41)}, {"41 bytes at the end of 200", longest(200, 199, 41)},
+	{"an entry of a million bytes", longest(3, 1, 1000000)}, {"201 entries and 41 bytes", longest(201, 0, 41)},
+}
+
 func TestP4P5TooLong(t *testing.T) {
-	for _, c := range []struct {
-		what string
-		l    []string
-	}{
-		{"201 entries", named(201)}, {"201 empty entries", make([]string, 201)}, {"a million entries", make([]string, 1000000)},
-		{"41 bytes alone", longest(1, 0, 41)}, {"41 bytes ahead", longest(9, 0, 41)}, {"41 bytes amid", longest(9, 4, 41)},
-		{"41 bytes at the end", longest(9, 8, 41)}, {"41 bytes at the end of 200", longest(200, 199, 41)},
-		{"an entry of a million bytes", longest(3, 1, 1000000)}, {"201 entries and 41 bytes", longest(201, 0, 41)},
-	} {
+	for _, c := range tooLong {
 		if got, err := lender.Root(c.l); got != 0 || err != api.ErrLong {
 			t.Errorf("%s: Root = %d, %d", c.what, got, err)
 		}

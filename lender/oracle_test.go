@@ -69,9 +69,7 @@ func leadsOf(n, i, s int, path []int) (int, bool) {
 		if p < 0 || p > 4092 {
 			return 0, false
 		}
-		for last > 0 && i == last && i%2 == 0 {
-			i, last = i/2, last/2
-		}
+		i, last = upOf(i, last)
 		if last == 0 {
 			return 0, false
 		}
@@ -82,10 +80,80 @@ func leadsOf(n, i, s int, path []int) (int, bool) {
 		}
 		i, last = i/2, last/2
 	}
-	for last > 0 && i == last && i%2 == 0 {
-		i, last = i/2, last/2
-	}
+	_, last = upOf(i, last)
 	return s, last == 0
+}
+
+// furtherOf climbs from the last whole part of the first m entries, which is a sum of its own row: this sum, unless it is the old root itself, and then those beside the way up.
+func furtherOf(l []string, m int) []int {
+	path := []int{}
+	if m == len(l) {
+		return path
+	}
+	rows, at, row := rowsOf(l), m-1, 0
+	for at%2 == 1 {
+		at, row = at/2, row+1
+	}
+	if at > 0 {
+		path = append(path, rows[row][at])
+	}
+	for _, sums := range rows[row:] {
+		if beside := at ^ 1; beside < len(sums) {
+			path = append(path, sums[beside])
+		}
+		at /= 2
+	}
+	return path
+}
+
+// joinsOf tells what a path joins, the flag being yes.
+func joinsOf(m, n, old int, path []int) (int, int, bool) {
+	for _, p := range append([]int{old}, path...) {
+		if p < 0 || p > 4092 {
+			return 0, 0, false
+		}
+	}
+	return climbOf(m, n, old, path)
+}
+
+// climbOf climbs as furtherOf does, with the numbers of a path, whatever they are: at is the place of the old log's last sum in its row, last that of the whole log's.
+func climbOf(m, n, old int, path []int) (int, int, bool) {
+	if m == n {
+		return old, old, len(path) == 0
+	}
+	at, last := m-1, n-1
+	for at%2 == 1 {
+		at, last = at/2, last/2
+	}
+	if at == 0 {
+		path = append([]int{old}, path...)
+	}
+	if len(path) == 0 {
+		return 0, 0, false
+	}
+	x, y := path[0], path[0]
+	for _, p := range path[1:] {
+		at, last = upOf(at, last)
+		if last == 0 {
+			return 0, 0, false
+		}
+		if at%2 == 1 {
+			x, y = nodeOf(p, x), nodeOf(p, y)
+		} else {
+			y = nodeOf(y, p)
+		}
+		at, last = at/2, last/2
+	}
+	_, last = upOf(at, last)
+	return x, y, last == 0
+}
+
+// upOf goes up from a last sum that has none beside it, to the row where it has one or is alone.
+func upOf(at, last int) (int, int) {
+	for last > 0 && at == last && at%2 == 0 {
+		at, last = at/2, last/2
+	}
+	return at, last
 }
 
 // entries gives a log of n entries of many lengths, the empty one and one of 40 bytes among them.

@@ -1,4 +1,4 @@
-// Package logs: the root of a log, and the paths that lead to it.
+// Package logs: the root of a log, the paths that lead to it, and those that join it with its beginning.
 package logs
 
 import (
@@ -86,4 +86,79 @@ func Leads(n int, i int, s int, path []int) (int, bool) {
 		return 0, false
 	}
 	return sums.Node(p, x), true
+}
+
+// Further is the path that joins the first m entries of a log, m being 1 to len(l), with the whole of it; whole tells whether these m are the old log as a whole, whose root the reader knows.
+func Further(l []string, m int, whole bool) []int {
+	// One entry is never cut, whatever m is: so it ends at every m.
+	if m >= len(l) || len(l) <= 1 {
+		return known(l, whole)
+	}
+	k := Cut(len(l))
+	if m <= k {
+		p := Further(l[:k], m, whole)
+		other := Root(l[k:])
+		return append(p, other)
+	}
+	p := Further(l[k:], m-k, false)
+	first := Root(l[:k])
+	return append(p, first)
+}
+
+// known is how the path begins at the part of the log where the old one ends: the reader needs the part's root, unless it is the old root.
+func known(l []string, whole bool) []int {
+	if whole {
+		return nil
+	}
+	r := Root(l)
+	return []int{r}
+}
+
+// Joins is what a path joins for m and n, the number old and the flag whole: the sums of the old log and of all of it; false if it joins nothing.
+func Joins(m int, n int, old int, whole bool, path []int) (int, int, bool) {
+	if m < 1 || m > n {
+		return 0, 0, false
+	}
+	if m == n {
+		x, ok := begins(old, whole, path)
+		return x, x, ok
+	}
+	if len(path) == 0 {
+		return 0, 0, false
+	}
+	last := len(path) - 1
+	p := path[last]
+	if !sums.IsSum(p) {
+		return 0, 0, false
+	}
+	k := Cut(n)
+	if m <= k {
+		x, y, ok := Joins(m, k, old, whole, path[:last])
+		if !ok {
+			return 0, 0, false
+		}
+		return x, sums.Node(y, p), true
+	}
+	x, y, ok := Joins(m-k, n-k, old, false, path[:last])
+	if !ok {
+		return 0, 0, false
+	}
+	before := sums.Node(p, x)
+	after := sums.Node(p, y)
+	return before, after, true
+}
+
+// begins is the sum from which a path goes on, at the part of the log where the old one ends; false if there is none.
+func begins(old int, whole bool, path []int) (int, bool) {
+	// Every path that joins something comes by here, so old is looked at even where it is not used.
+	if !sums.IsSum(old) {
+		return 0, false
+	}
+	if whole && len(path) == 0 {
+		return old, true
+	}
+	if !whole && len(path) == 1 && sums.IsSum(path[0]) {
+		return path[0], true
+	}
+	return 0, false
 }
