@@ -25,11 +25,16 @@ func TestP1EveryCallEnds(t *testing.T) {
 		for _, i := range numbers {
 			lender.Path(l, i)
 			lender.Further(l, i)
-			lender.Twin(l, i, "x", paths[4])
+			for _, path := range paths {
+				for _, s := range texts {
+					lender.Twin(l, i, s, path)
+				}
+			}
 		}
-		for _, path := range paths {
-			lender.Twins(l, lists[4], path)
-			lender.Twins(lists[4], l, path)
+		for _, other := range lists {
+			for _, path := range paths {
+				lender.Twins(l, other, path)
+			}
 		}
 	}
 	for _, n := range numbers {
@@ -111,6 +116,29 @@ func TestP2NothingHandedInIsWritten(t *testing.T) {
 			lender.Within(0, n, i, "x", path)
 			if fmt.Sprint(whole) != before {
 				t.Errorf("a path from %d to %d entries, or its spare room, was written into", i+1, n)
+			}
+		}
+	}
+}
+
+// Proofs that are true, false, and turned down: with each of them both calls that give proofs away.
+func TestP2NothingToGiveAwayFromIsWritten(t *testing.T) {
+	for _, n := range []int{1, 2, 3, 7, 8, 13, 128, 200} {
+		for _, i := range []int{0, n / 2, n - 1} {
+			wholeB, b := spareLog(named(n))
+			for _, entry := range []string{b[i], alike(leafOf(b[i]), 9, b[i], &dice{3}), "another"} {
+				wholeA, a := spareLog(with(b[:i+1], i, entry))
+				wholePath, path := sparePath(pathOf(b, i))
+				wholeFurther, further := sparePath(furtherOf(b, i+1))
+				before := fmt.Sprint(wholeA, wholeB, wholePath, wholeFurther)
+				lender.Twin(b, i, entry, path)
+				lender.Twin(a, i, entry, further)
+				lender.Twins(a, b, further)
+				lender.Twins(b, a, path)
+				lender.Twins(a, a, path[:0])
+				if fmt.Sprint(wholeA, wholeB, wholePath, wholeFurther) != before {
+					t.Errorf("%d entries, %q at %d: something handed in, or its spare room, was written into", n, entry, i)
+				}
 			}
 		}
 	}
@@ -203,6 +231,36 @@ func TestP2TheSameEachTime(t *testing.T) {
 			if fmt.Sprint(further) != fmt.Sprint(furtherOf(l[:n], m)) || !lender.Grows(rootOf(l[:m]), m, root, n, further) {
 				t.Fatalf("round %d: the answers from %d to %d entries are others", round, m, n)
 			}
+		}
+	}
+}
+
+// Which two texts come out is open, but they are the same two each time: with other calls between, from lists of the same content laid elsewhere, and after the lists handed in have changed.
+func TestP2TheSameTwoTextsEachTime(t *testing.T) {
+	d := &dice{4}
+	for _, n := range []int{1, 2, 3, 7, 8, 13, 128, 200} {
+		for _, i := range []int{0, n / 2, n - 1} {
+			l := entries(n)
+			entry := alike(leafOf(l[i]), 9, l[i], d)
+			a, path, further := with(l[:i+1], i, entry), pathOf(l, i), furtherOf(l, i+1)
+			x, y, _ := lender.Twin(l, i, entry, path)
+			one, other, _ := lender.Twins(a, l, further)
+			for round := 0; round < 3; round++ {
+				lender.Twin(named(n), 0, "cdS", pathOf(named(n), 0))
+				lender.Twin(with(l, i, "aa0"), i, "cdS", path)
+				lender.Twins(with(l, i, "aa0"), with(l, i, "cdS"), nil)
+				lender.Twins(named(201), l, nil)
+				l = append([]string{}, l...)
+				if x2, y2, err := lender.Twin(l, i, entry, path); x2 != x || y2 != y || err != api.OK {
+					t.Fatalf("Twin of %d entries at %d: %q, %q, then %q, %q, %d", n, i, x, y, x2, y2, err)
+				}
+				if one2, other2, err := lender.Twins(a, l, further); one2 != one || other2 != other || err != api.OK {
+					t.Fatalf("Twins of %d and %d entries: %q, %q, then %q, %q, %d", i+1, n, one, other, one2, other2, err)
+				}
+			}
+			l[i] = entry
+			checkNoTwin(t, l, i, entry, path, api.ErrCalm)
+			checkNoTwins(t, a, l, further, api.ErrCalm)
 		}
 	}
 }

@@ -5,6 +5,7 @@ import (
 	"lender/api"
 	"lender/logs"
 	"lender/sums"
+	"lender/twins"
 )
 
 // Book is a book of loans.
@@ -40,9 +41,9 @@ func Within(root int, n int, i int, entry string, path []int) bool {
 	if len(entry) > api.MaxEntry {
 		return false
 	}
-	s := sums.Entry(entry)
-	x, ok := logs.Leads(n, i, s, path)
-	return ok && x == root
+	start := sums.EntryText(entry)
+	text, ok := logs.Leads(n, i, start, path)
+	return ok && sums.Sum(text) == root
 }
 
 // Further gives the proof that a log goes on from its beginning (P7).
@@ -67,11 +68,37 @@ func Grows(old int, m int, root int, n int, path []int) bool {
 
 // Twin gives away a false proof that an entry is in a log (P9).
 func Twin(l []string, i int, entry string, path []int) (string, string, api.Errno) {
-	return "", "", api.OK
+	root, err := Root(l)
+	if err != api.OK {
+		return "", "", err
+	}
+	if i < 0 || i >= len(l) {
+		return "", "", api.ErrArg
+	}
+	if entry == l[i] || !Within(root, len(l), i, entry, path) {
+		return "", "", api.ErrCalm
+	}
+	shown, there := twins.OfEntry(l, i, entry, path)
+	return shown, there, api.OK
 }
 
 // Twins gives away a false proof that a log goes on from another (P10).
-func Twins(a []string, b []string, path []int) (string, string, api.Errno) { return "", "", api.OK }
+func Twins(a []string, b []string, path []int) (string, string, api.Errno) {
+	old, err := Root(a)
+	if err != api.OK {
+		return "", "", err
+	}
+	root, err := Root(b)
+	if err != api.OK {
+		return "", "", err
+	}
+	accepted := Grows(old, len(a), root, len(b), path)
+	if !accepted || logs.Begins(a, b) {
+		return "", "", api.ErrCalm
+	}
+	one, other := twins.OfLogs(a, b, true, path)
+	return one, other, api.OK
+}
 
 // New makes an empty book (P11).
 func New() *Book { return nil }

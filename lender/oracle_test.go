@@ -17,8 +17,12 @@ func leafOf(entry string) int {
 	return sumOf("E" + entry)
 }
 
+func nodeTextOf(a, b int) string {
+	return "N" + string([]byte{byte(a & 255), byte(a >> 8), byte(b & 255), byte(b >> 8)})
+}
+
 func nodeOf(a, b int) int {
-	return sumOf("N" + string([]byte{byte(a & 255), byte(a >> 8), byte(b & 255), byte(b >> 8)}))
+	return sumOf(nodeTextOf(a, b))
 }
 
 // rowsOf joins neighbours row by row until one sum is left; an odd last one goes up as it is.
@@ -62,26 +66,46 @@ func pathOf(l []string, i int) []int {
 	return path
 }
 
-// leadsOf climbs from the entry at i: last is the place of the row's last sum.
+// textsOf gives the texts of a log.
+func textsOf(l []string) []string {
+	var texts []string
+	for _, entry := range l {
+		texts = append(texts, "E"+entry)
+	}
+	for _, row := range rowsOf(l) {
+		for j := 1; j < len(row); j += 2 {
+			texts = append(texts, nodeTextOf(row[j-1], row[j]))
+		}
+	}
+	return texts
+}
+
 func leadsOf(n, i, s int, path []int) (int, bool) {
+	s, _, ok := stepsOf(n, i, s, path)
+	return s, ok
+}
+
+// stepsOf climbs from the entry at i, and gives the texts that are summed on the way as well: last is the place of the row's last sum.
+func stepsOf(n, i, s int, path []int) (int, []string, bool) {
+	var texts []string
 	last := n - 1
 	for _, p := range path {
 		if p < 0 || p > 4092 {
-			return 0, false
+			return 0, nil, false
 		}
 		i, last = upOf(i, last)
 		if last == 0 {
-			return 0, false
+			return 0, nil, false
 		}
+		text := nodeTextOf(s, p)
 		if i%2 == 1 {
-			s = nodeOf(p, s)
-		} else {
-			s = nodeOf(s, p)
+			text = nodeTextOf(p, s)
 		}
-		i, last = i/2, last/2
+		texts = append(texts, text)
+		s, i, last = sumOf(text), i/2, last/2
 	}
 	_, last = upOf(i, last)
-	return s, last == 0
+	return s, texts, last == 0
 }
 
 // furtherOf climbs from the last whole part of the first m entries, which is a sum of its own row: this sum, unless it is the old root itself, and then those beside the way up.
@@ -116,10 +140,15 @@ func joinsOf(m, n, old int, path []int) (int, int, bool) {
 	return climbOf(m, n, old, path)
 }
 
-// climbOf climbs as furtherOf does, with the numbers of a path, whatever they are: at is the place of the old log's last sum in its row, last that of the whole log's.
 func climbOf(m, n, old int, path []int) (int, int, bool) {
+	x, y, _, ok := joinStepsOf(m, n, old, path)
+	return x, y, ok
+}
+
+// joinStepsOf climbs as furtherOf does, with the numbers of a path, whatever they are, and gives the texts that are summed on the way as well: at is the place of the old log's last sum in its row, last that of the whole log's.
+func joinStepsOf(m, n, old int, path []int) (int, int, []string, bool) {
 	if m == n {
-		return old, old, len(path) == 0
+		return old, old, nil, len(path) == 0
 	}
 	at, last := m-1, n-1
 	for at%2 == 1 {
@@ -129,23 +158,26 @@ func climbOf(m, n, old int, path []int) (int, int, bool) {
 		path = append([]int{old}, path...)
 	}
 	if len(path) == 0 {
-		return 0, 0, false
+		return 0, 0, nil, false
 	}
+	var texts []string
 	x, y := path[0], path[0]
 	for _, p := range path[1:] {
 		at, last = upOf(at, last)
 		if last == 0 {
-			return 0, 0, false
+			return 0, 0, nil, false
 		}
 		if at%2 == 1 {
+			texts = append(texts, nodeTextOf(p, x), nodeTextOf(p, y))
 			x, y = nodeOf(p, x), nodeOf(p, y)
 		} else {
+			texts = append(texts, nodeTextOf(y, p))
 			y = nodeOf(y, p)
 		}
 		at, last = at/2, last/2
 	}
 	_, last = upOf(at, last)
-	return x, y, last == 0
+	return x, y, texts, last == 0
 }
 
 // upOf goes up from a last sum that has none beside it, to the row where it has one or is alone.

@@ -30,18 +30,37 @@ func Cut(n int) int {
 	return k
 }
 
-// Root is the root of a log.
-func Root(l []string) int {
+// Text is the text whose sum is the root of a log.
+func Text(l []string) string {
 	if len(l) == 0 {
-		return sums.Sum("")
+		return ""
 	}
 	if len(l) == 1 {
-		return sums.Entry(l[0])
+		return sums.EntryText(l[0])
 	}
 	k := Cut(len(l))
 	first := Root(l[:k])
 	other := Root(l[k:])
-	return sums.Node(first, other)
+	return sums.NodeText(first, other)
+}
+
+// Root is the root of a log.
+func Root(l []string) int {
+	text := Text(l)
+	return sums.Sum(text)
+}
+
+// Begins tells whether a log is the beginning of another, or all of it.
+func Begins(a []string, b []string) bool {
+	if len(a) > len(b) {
+		return false
+	}
+	for i := 0; i < len(a); i++ {
+		if a[i] != b[i] {
+			return false
+		}
+	}
+	return true
 }
 
 // Path is the path that leads to the root of a log from its entry i, which is 0 to len(l) - 1.
@@ -60,32 +79,34 @@ func Path(l []string, i int) []int {
 	return append(p, first)
 }
 
-// Leads is what a path leads to for n entries, the place i, which is 0 to n - 1, and the sum s; false if it leads nowhere.
-func Leads(n int, i int, s int, path []int) (int, bool) {
+// Leads is the text whose sum a path leads to for n entries and the place i, which is 0 to n - 1, from the sum of an entry's text; false if it leads nowhere.
+func Leads(n int, i int, text string, path []int) (string, bool) {
 	if n == 1 && len(path) == 0 {
-		return s, true
+		return text, true
 	}
 	if n <= 1 || len(path) == 0 {
-		return 0, false
+		return "", false
 	}
 	last := len(path) - 1
 	p := path[last]
 	if !sums.IsSum(p) {
-		return 0, false
+		return "", false
 	}
 	k := Cut(n)
 	if i < k {
-		x, ok := Leads(k, i, s, path[:last])
+		below, ok := Leads(k, i, text, path[:last])
 		if !ok {
-			return 0, false
+			return "", false
 		}
-		return sums.Node(x, p), true
+		x := sums.Sum(below)
+		return sums.NodeText(x, p), true
 	}
-	x, ok := Leads(n-k, i-k, s, path[:last])
+	below, ok := Leads(n-k, i-k, text, path[:last])
 	if !ok {
-		return 0, false
+		return "", false
 	}
-	return sums.Node(p, x), true
+	x := sums.Sum(below)
+	return sums.NodeText(p, x), true
 }
 
 // Further is the path that joins the first m entries of a log, m being 1 to len(l), with the whole of it; whole tells whether these m are the old log as a whole, whose root the reader knows.

@@ -21,16 +21,59 @@ func TestCut(t *testing.T) {
 	}
 }
 
+func TestTextAndRoot(t *testing.T) {
+	x, y, z := sums.Sum("Ex"), sums.Sum("Ey"), sums.Sum("Ez")
+	for _, c := range []struct {
+		l    []string
+		want string
+	}{
+		{nil, ""}, {[]string{""}, "E"}, {[]string{"x"}, "Ex"}, {[]string{"x", "y"}, sums.NodeText(x, y)},
+		{[]string{"x", "y", "z"}, sums.NodeText(sums.Node(x, y), z)},
+	} {
+		if got := logs.Text(c.l); got != c.want {
+			t.Errorf("Text(%q) = %q, want %q", c.l, got, c.want)
+		}
+		if got := logs.Root(c.l); got != sums.Sum(c.want) {
+			t.Errorf("Root(%q) = %d, want %d", c.l, got, sums.Sum(c.want))
+		}
+	}
+}
+
+func TestBegins(t *testing.T) {
+	for _, c := range []struct {
+		a, b []string
+		want bool
+	}{
+		{nil, nil, true}, {nil, []string{"x"}, true}, {[]string{"x"}, nil, false}, {[]string{"x"}, []string{"x"}, true},
+		{[]string{"x"}, []string{"y"}, false}, {[]string{"x"}, []string{"x", "y"}, true}, {[]string{"y"}, []string{"x", "y"}, false},
+		{[]string{"x", "y"}, []string{"x"}, false}, {[]string{"x", "y"}, []string{"x", "z"}, false}, {[]string{"x", ""}, []string{"x"}, false},
+	} {
+		if logs.Begins(c.a, c.b) != c.want {
+			t.Errorf("Begins(%q, %q) is not %v", c.a, c.b, c.want)
+		}
+	}
+}
+
 func TestLeads(t *testing.T) {
-	if x, ok := logs.Leads(1, 0, 7, nil); x != 7 || !ok {
-		t.Errorf("the empty path leads to %d, %v", x, ok)
+	x := sums.Sum("Ex")
+	for _, c := range []struct {
+		n, i int
+		path []int
+		want string
+	}{
+		{1, 0, nil, "Ex"}, {2, 0, []int{7}, sums.NodeText(x, 7)}, {2, 1, []int{7}, sums.NodeText(7, x)},
+		{3, 1, []int{7, 8}, sums.NodeText(sums.Node(7, x), 8)}, {3, 2, []int{7}, sums.NodeText(7, x)},
+	} {
+		if text, ok := logs.Leads(c.n, c.i, "Ex", c.path); text != c.want || !ok {
+			t.Errorf("of %d entries at %d %v leads to the sum of %q, %v", c.n, c.i, c.path, text, ok)
+		}
 	}
 	for _, c := range []struct {
 		n    int
 		path []int
 	}{{0, nil}, {0, []int{0}}, {-1, []int{0}}, {1, []int{0}}, {2, nil}, {2, []int{-1}}, {2, []int{4093}}, {2, []int{0, 0}}, {3, []int{0, -1}}, {3, []int{-1, 0}}} {
-		if x, ok := logs.Leads(c.n, 0, 7, c.path); x != 0 || ok {
-			t.Errorf("of %d entries %v leads to %d, %v", c.n, c.path, x, ok)
+		if text, ok := logs.Leads(c.n, 0, "Ex", c.path); text != "" || ok {
+			t.Errorf("of %d entries %v leads to the sum of %q, %v", c.n, c.path, text, ok)
 		}
 	}
 }

@@ -34,12 +34,6 @@ func NodeText(first int, other int) string {
 	return "N" + a + b
 }
 
-// Entry is the sum that stands for an entry.
-func Entry(entry string) int {
-	text := EntryText(entry)
-	return Sum(text)
-}
-
 // Node is the sum that stands for a log that is cut, of the roots of its two parts.
 func Node(first int, other int) int {
 	text := NodeText(first, other)

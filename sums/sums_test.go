@@ -26,10 +26,7 @@ func TestTexts(t *testing.T) {
 	}
 }
 
-func TestSumsOfTexts(t *testing.T) {
-	if got := sums.Entry("x"); got != 2159 {
-		t.Errorf("Entry = %d, want 2159", got)
-	}
+func TestNode(t *testing.T) {
 	if got := sums.Node(2159, 2160); got != 2443 {
 		t.Errorf("Node = %d, want 2443", got)
 	}

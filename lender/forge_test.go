@@ -1,0 +1,103 @@
+package lender_test
+
+// False proofs that the checks take, for the tests of what gives them away.
+
+// alike gives an entry of so many bytes, 2 or more, whose text has a sum, and which is not another one.
+func alike(sum, bytes int, other string, d *dice) string {
+	for {
+		b := make([]byte, bytes-1, bytes)
+		for j := range b {
+			b[j] = byte(d.below(256))
+		}
+		ahead := leafOf(string(b))
+		last := ((sum-ahead*263-1)%4093 + 4093) % 4093
+		if last < 256 && string(b)+string([]byte{byte(last)}) != other {
+			return string(b) + string([]byte{byte(last)})
+		}
+	}
+}
+
+// with gives a log with another entry at a place.
+func with(l []string, i int, entry string) []string {
+	l = append([]string{}, l...)
+	l[i] = entry
+	return l
+}
+
+// mended gives a log with such an entry at i that the log has this root; false if none gives it.
+func mended(l []string, i, root int, d *dice) ([]string, bool) {
+	path := pathOf(l, i)
+	for sum := 0; sum < 4093; sum++ {
+		if x, _ := leadsOf(len(l), i, sum, path); x == root {
+			return with(l, i, alike(sum, 2+d.below(39), l[i], d)), true
+		}
+	}
+	return nil, false
+}
+
+// forgedPath gives a path of an entry to the root of l with numbers that no parts have, up to the number at; those above it are true. False if no number at this place makes up for the others.
+func forgedPath(l []string, i int, entry string, at int, d *dice) ([]int, bool) {
+	root, path := rootOf(l), pathOf(l, i)
+	truth := path[at]
+	for j := 0; j < at; j++ {
+		path[j] = d.below(4093)
+	}
+	for path[at] = 0; path[at] < 4093; path[at]++ {
+		if x, _ := leadsOf(len(l), i, leafOf(entry), path); x == root && path[at] != truth {
+			return path, true
+		}
+	}
+	return nil, false
+}
+
+// oldOf tells of each number of a path from m to n entries, m below n, whether it stands for a part of the old log.
+func oldOf(m, n int) []bool {
+	var old []bool
+	at, last := m-1, n-1
+	for at%2 == 1 {
+		at, last = at/2, last/2
+	}
+	if at > 0 {
+		old = append(old, true)
+	}
+	for at, last = upOf(at, last); last > 0; at, last = upOf(at/2, last/2) {
+		old = append(old, at%2 == 1)
+	}
+	return old
+}
+
+// forgedJoin gives a path that joins the roots of a and b with numbers that no parts have, ahead of the number at; from it on they are true of b. False if none was found.
+func forgedJoin(a, b []string, at int, d *dice) ([]int, bool) {
+	old, root, path := rootOf(a), rootOf(b), furtherOf(b, len(a))
+	// The last number for the old log makes up for what it sums up to, then the last other one for the whole.
+	first, second := -1, -1
+	for j, o := range oldOf(len(a), len(b))[:at] {
+		path[j] = d.below(4093)
+		if o {
+			first = j
+		} else {
+			second = j
+		}
+	}
+	right := func(whole bool) bool {
+		x, y, _ := joinsOf(len(a), len(b), old, path)
+		return x == old && (!whole || y == root)
+	}
+	if !solved(path, first, func() bool { return right(false) }) || !solved(path, second, func() bool { return right(true) }) {
+		return nil, false
+	}
+	return path, true
+}
+
+// solved looks for a number at a place of a path by which something holds; without a place, for whether it holds.
+func solved(path []int, place int, holds func() bool) bool {
+	if place < 0 {
+		return holds()
+	}
+	for path[place] = 0; path[place] < 4093; path[place]++ {
+		if holds() {
+			return true
+		}
+	}
+	return false
+}
