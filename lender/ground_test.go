@@ -52,19 +52,21 @@ func TestP1EveryCallEnds(t *testing.T) {
 }
 
 func TestP1EveryMethodEnds(t *testing.T) {
-	b := lender.New()
-	for _, n := range append([]int{0, 1, 2, 63, 64, 199, 200, 4092}, strange...) {
-		a := api.Account{Loan: n, Size: n, Log: n, Path: [api.Depth]int{n, n, n, n, n, n}}
-		a.State = api.State{Principal: n, Due: n, Rate: n, Day: n, Spare: n, Count: n}
-		b.Add(api.Event{Loan: n, Kind: n, Amount: n, Day: n})
-		b.State(n)
-		b.Account(n)
-		b.Lie(a)
-		lender.Accepts(n, a)
+	for _, size := range []int{0, 9, 199, 200} {
+		b, _ := filled(t, size)
+		for _, n := range append([]int{0, 1, 2, 63, 64, 199, 200, 4092}, strange...) {
+			a := api.Account{Loan: n, Size: n, Log: n, Path: [api.Depth]int{n, n, n, n, n, n}}
+			a.State = api.State{Principal: n, Due: n, Rate: n, Day: n, Spare: n, Count: n}
+			b.Add(api.Event{Loan: n, Kind: n, Amount: n, Day: n})
+			b.State(n)
+			b.Account(n)
+			b.Lie(a)
+			lender.Accepts(n, a)
+		}
+		b.Size()
+		b.Log()
+		b.Head()
 	}
-	b.Size()
-	b.Log()
-	b.Head()
 }
 
 // spareLog and sparePath lay a list into a greater one with marks behind it, and give both.

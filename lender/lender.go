@@ -3,13 +3,17 @@ package lender
 
 import (
 	"lender/api"
+	"lender/loans"
 	"lender/logs"
 	"lender/sums"
 	"lender/twins"
 )
 
 // Book is a book of loans.
-type Book struct{}
+type Book struct {
+	// Everything that the book answers follows from these, so nothing else is kept.
+	events []api.Event
+}
 
 // Sum sums a text up (P3).
 func Sum(s string) int { return sums.Sum(s) }
@@ -101,22 +105,48 @@ func Twins(a []string, b []string, path []int) (string, string, api.Errno) {
 }
 
 // New makes an empty book (P11).
-func New() *Book { return nil }
+func New() *Book { return &Book{} }
 
 // Add adds an event (P11).
-func (b *Book) Add(e api.Event) api.Errno { return api.OK }
+func (b *Book) Add(e api.Event) api.Errno {
+	size := len(b.events)
+	if size >= api.MaxLog {
+		return api.ErrFull
+	}
+	if !loans.MayBe(e) {
+		return api.ErrEvent
+	}
+	if size > 0 && e.Day < b.events[size-1].Day {
+		return api.ErrDay
+	}
+	b.events = append(b.events, e)
+	return api.OK
+}
 
 // Size tells how many events there are (P12).
-func (b *Book) Size() int { return 0 }
+func (b *Book) Size() int { return len(b.events) }
 
 // State tells a loan's state (P12).
-func (b *Book) State(loan int) (api.State, api.Errno) { return api.State{}, api.OK }
+func (b *Book) State(loan int) (api.State, api.Errno) {
+	if loan < 0 || loan >= api.Loans {
+		return api.State{}, api.ErrArg
+	}
+	return loans.State(b.events, loan), api.OK
+}
 
 // Log tells the entries (P13).
-func (b *Book) Log() []string { return nil }
+func (b *Book) Log() []string { return loans.Entries(b.events) }
 
 // Head tells the head (P13).
-func (b *Book) Head() api.Head { return api.Head{} }
+func (b *Book) Head() api.Head {
+	size := len(b.events)
+	entries := loans.Entries(b.events)
+	log := logs.Root(entries)
+	states := loans.States(b.events)
+	all := loans.Sum(states)
+	text := loans.HeadText(size, log, all)
+	return api.Head{Size: size, Log: log, Map: all, Top: sums.Sum(text)}
+}
 
 // Account gives a loan's account (P14).
 func (b *Book) Account(loan int) (api.Account, api.Errno) { return api.Account{}, api.OK }
