@@ -1,6 +1,8 @@
 package lender_test
 
-// False proofs that the checks take, for the tests of what gives them away.
+import "lender/api"
+
+// False proofs and accounts that the checks take, for the tests of what gives them away.
 
 // alike gives an entry of so many bytes, 2 or more, whose text has a sum, and which is not another one.
 func alike(sum, bytes int, other string, d *dice) string {
@@ -100,4 +102,59 @@ func solved(path []int, place int, holds func() bool) bool {
 		}
 	}
 	return false
+}
+
+// anyState gives a state, whether or not events can lead to it.
+func anyState(d *dice) api.State {
+	return api.State{Principal: d.below(1000), Due: d.below(100000), Rate: d.below(2000), Day: d.below(20000), Spare: d.below(10000000), Count: d.below(300)}
+}
+
+// alikeState gives a state whose text has a sum, and which is not another one.
+func alikeState(sum int, other api.State, d *dice) api.State {
+	for {
+		if s := anyState(d); s != other && sumOf(stateTextOf(s)) == sum {
+			return s
+		}
+	}
+}
+
+// alikeNumber gives another number whose two bytes have the same sum, so that a text with them at the same place has it too; false if there is none.
+func alikeNumber(n int) (int, bool) {
+	sum := sumOf(numbersText("", n))
+	for other := 0; other < 4093; other++ {
+		if other != n && sumOf(numbersText("", other)) == sum {
+			return other, true
+		}
+	}
+	return 0, false
+}
+
+// settled looks for a number of an account, other than it is, by which the account shows a top; it looks from anywhere on, so as not to find the least ones alone.
+func settled(a *api.Account, number *int, top int, d *dice) bool {
+	truth, from := *number, d.below(4093)
+	for i := 0; i < 4093; i++ {
+		*number = (from + i) % 4093
+		if *number != truth && showsOf(*a) == top {
+			return true
+		}
+	}
+	return false
+}
+
+// forgedAccount gives an account of a loan with another state that shows a book's top, with numbers beside it that no loans have up to the depth at; those above it are true. At 6 it is the root of the log that makes up for the others, at 7 it does so for another size too. False if none does.
+func forgedAccount(g *ledger, loan, at int, d *dice) (api.Account, bool) {
+	a, top := g.account(loan), g.head().Top
+	a.State = anyState(d)
+	for j := 0; j < at && j < 6; j++ {
+		a.Path[j] = d.below(4093)
+	}
+	number := &a.Log
+	if at < 6 {
+		number = &a.Path[at]
+	}
+	if at == 7 {
+		a.Size = (a.Size + 1 + d.below(200)) % 201
+	}
+	ok := settled(&a, number, top, d)
+	return a, ok
 }

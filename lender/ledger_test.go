@@ -117,6 +117,66 @@ func (g *ledger) head() api.Head {
 	return h
 }
 
+// account gives the account of a loan: beside its sum at depth d stands the one at the other place of their pair.
+func (g *ledger) account(loan int) api.Account {
+	h, sums := g.head(), g.depths()
+	a := api.Account{Loan: loan, State: g.states[loan], Size: h.Size, Log: h.Log}
+	for d := range a.Path {
+		a.Path[d] = sums[d][loan>>d^1]
+	}
+	return a
+}
+
+// texts gives the texts of a book.
+func (g *ledger) texts() []string {
+	h, sums := g.head(), g.depths()
+	texts := []string{numbersText("H", h.Size, h.Log, h.Map)}
+	for _, s := range g.states {
+		texts = append(texts, stateTextOf(s))
+	}
+	for _, row := range sums[:6] {
+		for j := 0; j < len(row); j += 2 {
+			texts = append(texts, numbersText("M", row[j], row[j+1]))
+		}
+	}
+	return texts
+}
+
+// accountTextsOf gives the texts of an account, that of the head first.
+func accountTextsOf(a api.Account) []string {
+	texts := risesOf(a, 6)
+	return append([]string{numbersText("H", a.Size, a.Log, sumOf(texts[0]))}, texts...)
+}
+
+// risesOf gives the texts of an account up to a depth, the highest first.
+func risesOf(a api.Account, depth int) []string {
+	if depth == 0 {
+		return []string{stateTextOf(a.State)}
+	}
+	below := risesOf(a, depth-1)
+	pair := [2]int{sumOf(below[0]), a.Path[depth-1]}
+	if a.Loan>>(depth-1)&1 == 1 {
+		pair[0], pair[1] = pair[1], pair[0]
+	}
+	return append([]string{numbersText("M", pair[:]...)}, below...)
+}
+
+// showsOf tells what an account of numbers that may be shows.
+func showsOf(a api.Account) int {
+	return sumOf(accountTextsOf(a)[0])
+}
+
+// acceptsOf tells whether an account is accepted.
+func acceptsOf(top int, a api.Account) bool {
+	s := a.State
+	least := min(s.Principal, s.Due, s.Rate, s.Day, s.Spare, s.Count, a.Loan, a.Size, a.Log)
+	greatest := a.Log
+	for _, p := range a.Path {
+		least, greatest = min(least, p), max(greatest, p)
+	}
+	return least >= 0 && greatest <= 4092 && a.Loan <= 63 && a.Size <= 200 && showsOf(a) == top
+}
+
 // differs tells the first answer of a book that is not the ledger's; the empty text if there is none.
 func differs(b *lender.Book, g *ledger) string {
 	if got := b.Size(); got != len(g.events) {
@@ -140,6 +200,16 @@ func checkBook(t *testing.T, b *lender.Book, g *ledger) {
 	t.Helper()
 	if what := differs(b, g); what != "" {
 		t.Fatalf("behind %v: %s", g.events, what)
+	}
+}
+
+// checkAccounts holds the account of each loan against the ledger's.
+func checkAccounts(t *testing.T, b *lender.Book, g *ledger) {
+	t.Helper()
+	for loan := range g.states {
+		if got, err := b.Account(loan); got != g.account(loan) || err != api.OK {
+			t.Fatalf("behind %v: Account(%d) = %+v, %d, want %+v", g.events, loan, got, err, g.account(loan))
+		}
 	}
 }
 

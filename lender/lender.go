@@ -2,6 +2,7 @@
 package lender
 
 import (
+	"lender/accounts"
 	"lender/api"
 	"lender/loans"
 	"lender/logs"
@@ -149,10 +150,37 @@ func (b *Book) Head() api.Head {
 }
 
 // Account gives a loan's account (P14).
-func (b *Book) Account(loan int) (api.Account, api.Errno) { return api.Account{}, api.OK }
+func (b *Book) Account(loan int) (api.Account, api.Errno) {
+	state, err := b.State(loan)
+	if err != api.OK {
+		return api.Account{}, err
+	}
+	head := b.Head()
+	states := loans.States(b.events)
+	path := loans.Path(states, loan)
+	return api.Account{Loan: loan, State: state, Size: head.Size, Log: head.Log, Path: path}, api.OK
+}
 
 // Accepts checks an account (P15).
-func Accepts(top int, a api.Account) bool { return false }
+func Accepts(top int, a api.Account) bool {
+	if !accounts.MayBe(a) {
+		return false
+	}
+	return accounts.Shows(a) == top
+}
 
 // Lie gives away a false account (P16).
-func (b *Book) Lie(a api.Account) (string, string, api.Errno) { return "", "", api.OK }
+func (b *Book) Lie(a api.Account) (string, string, api.Errno) {
+	head := b.Head()
+	if !Accepts(head.Top, a) {
+		return "", "", api.ErrCalm
+	}
+	// There is no error: what is accepted is of a loan that there is.
+	own, _ := b.Account(a.Loan)
+	// Another path alone is no lie: what is said of the loan is true.
+	if a.Size == own.Size && a.Log == own.Log && a.State == own.State {
+		return "", "", api.ErrCalm
+	}
+	shown, there := twins.OfAccount(a, own)
+	return shown, there, api.OK
+}

@@ -91,3 +91,29 @@ func TestSum(t *testing.T) {
 		t.Errorf("the loans' sum without events is %d, want 3514", got)
 	}
 }
+
+// Each loan has a state of its own: so each sum stands at one place alone.
+func TestPath(t *testing.T) {
+	states := loans.States(nil)
+	for loan := range states {
+		states[loan].Principal = loan
+	}
+	for loan := range states {
+		path := loans.Path(states, loan)
+		for d := range path {
+			// The neighbours at depth d begin where the loan's own, with the bit d turned, have no bits below it.
+			begin := (loan ^ 1<<d) >> d << d
+			if want := loans.Sum(states[begin : begin+1<<d]); path[d] != want {
+				t.Errorf("beside loan %d at depth %d stands %d, want %d", loan, d, path[d], want)
+			}
+		}
+	}
+}
+
+func TestPathEnds(t *testing.T) {
+	for _, states := range [][]api.State{nil, make([]api.State, 1), make([]api.State, 5), make([]api.State, 64)} {
+		for _, loan := range []int{-1 << 63, -1, 0, 63, 64, 1<<63 - 1} {
+			loans.Path(states, loan)
+		}
+	}
+}

@@ -45,3 +45,20 @@ func Sum(states []api.State) int {
 	text := Text(states)
 	return sums.Sum(text)
 }
+
+// Path is the sums that stand beside those of a loan, which is 0 to 63, at the depths 0 to 5; the states are those of all loans.
+func Path(states []api.State, loan int) [api.Depth]int {
+	path := [api.Depth]int{}
+	for d := api.Depth - 1; d >= 0; d-- {
+		half := len(states) / 2
+		if loan < half {
+			path[d] = Sum(states[half:])
+			states = states[:half]
+		} else {
+			path[d] = Sum(states[:half])
+			states = states[half:]
+			loan = loan - half
+		}
+	}
+	return path
+}

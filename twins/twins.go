@@ -2,6 +2,8 @@
 package twins
 
 import (
+	"lender/accounts"
+	"lender/api"
 	"lender/logs"
 	"lender/sums"
 )
@@ -72,4 +74,16 @@ func ofRoots(a []string, b []string) (string, string) {
 		return ofRoots(a[:k], b[:k])
 	}
 	return ofRoots(a[k:], b[k:])
+}
+
+// OfAccount is the two texts for an account that shows what the book's own account of this loan shows, and has another size, log or state: the first is a text of the account, the second a text of the book's.
+func OfAccount(a api.Account, own api.Account) (string, string) {
+	shown := accounts.Texts(a)
+	there := accounts.Texts(own)
+	// As long as the texts are the same, so are the sums in them, of the texts below.
+	at := accounts.Count - 1
+	for at > 0 && shown[at] == there[at] {
+		at = at - 1
+	}
+	return shown[at], there[at]
 }

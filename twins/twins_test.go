@@ -3,6 +3,8 @@ package twins_test
 import (
 	"testing"
 
+	"lender/accounts"
+	"lender/api"
 	"lender/sums"
 	"lender/twins"
 )
@@ -50,5 +52,35 @@ func TestEnds(t *testing.T) {
 				twins.OfLogs(a, b, false, path)
 			}
 		}
+	}
+}
+
+// The first place from the top down at which the texts are not the same. The states have the same sum, and so have the texts with a number of the path that is 505 greater.
+func TestOfAccount(t *testing.T) {
+	own := api.Account{Loan: 21, State: api.State{Principal: 3}, Size: 5, Log: 6, Path: [api.Depth]int{1, 2, 3, 4, 5, 6}}
+	a := own
+	a.State.Spare = 2949
+	checkAccount(t, a, own, 0)
+	for d := range a.Path {
+		a.Path[d] += 505
+		checkAccount(t, a, own, d+1)
+	}
+	a.Log += 505
+	checkAccount(t, a, own, 7)
+}
+
+func checkAccount(t *testing.T, a, own api.Account, at int) {
+	t.Helper()
+	x, y := twins.OfAccount(a, own)
+	shown, there := accounts.Texts(a), accounts.Texts(own)
+	if x != shown[at] || y != there[at] || x == y || sums.Sum(x) != sums.Sum(y) {
+		t.Errorf("of %+v: %q, %q, want %q, %q", a, x, y, shown[at], there[at])
+	}
+}
+
+func TestOfAccountsThatAreTheSame(t *testing.T) {
+	a := api.Account{Loan: 63, Log: 4092}
+	if x, y := twins.OfAccount(a, a); x != "S0 0 0 0 0 0" || y != x {
+		t.Errorf("%q, %q", x, y)
 	}
 }
